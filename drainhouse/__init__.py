@@ -1,0 +1,1 @@
+"""Drainhouse: houses that serve, come and go."""
