@@ -1,7 +1,7 @@
 """The board, which makes the editions, one by one."""
 
-from drainhouse.checks import MOST_HOUSES, SLOTS, is_house
-from drainhouse.errors import BadHouse, Known, LastHouse, NoHouse, TooMany
+from drainhouse.checks import MOST_HOUSES, SLOTS, check_house
+from drainhouse.errors import Known, LastHouse, NoHouse, TooMany
 from drainhouse.letters import edition_letter
 from drainhouse.shares import shared
 
@@ -90,9 +90,3 @@ class Board:
         make, houses = self.planned.pop(0)
         self.lacking = sorted(set(self.houses() + houses))
         self.now = (self.now[0] + 1, make, shared(self.now[2], houses))
-
-
-def check_house(house):
-    """Refuse what names no house."""
-    if not is_house(house):
-        raise BadHouse("a house is a number from 0 to 19")
