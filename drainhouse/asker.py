@@ -1,7 +1,7 @@
 """An asker, which asks the houses that its book names."""
 
-from drainhouse.checks import check_asker, is_edition, is_slot, is_within
-from drainhouse.errors import BadAsk, BadEdition, Busy
+from drainhouse.checks import check_asker, check_edition, is_slot, is_within
+from drainhouse.errors import BadAsk, Busy
 from drainhouse.letters import ask_letter
 
 LEAST_MORE = -99
@@ -13,8 +13,7 @@ class Asker:
 
     def __init__(self, name, edition):
         check_asker(name)
-        if not is_edition(edition):
-            raise BadEdition("an edition is a number, a make or None, and owners")
+        check_edition(edition)
         self.name = name
         self.now = edition
         self.number = 0

@@ -1,6 +1,6 @@
 """What a house, an asker, a slot, owners and an edition are."""
 
-from drainhouse.errors import BadAsker, BadHouse
+from drainhouse.errors import BadAsker, BadEdition, BadHouse
 
 SLOTS = 12
 ASKERS = 6
@@ -57,3 +57,9 @@ def check_asker(asker):
     """Refuse what names no asker."""
     if not is_within(asker, 0, ASKERS - 1):
         raise BadAsker("an asker is a number from 0 to 5")
+
+
+def check_edition(edition):
+    """Refuse what is no edition."""
+    if not is_edition(edition):
+        raise BadEdition("an edition is a number, a make or None, and owners")

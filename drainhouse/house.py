@@ -2,10 +2,10 @@
 
 from drainhouse.checks import SLOTS, check_house
 from drainhouse.letters import answer_letter, book_letter, give_letter, has_letter, taken_letter
+from drainhouse.worths import with_more
 
 NO_EDITION = (0, None, ())
 FIRST_NUMBER = 1
-WORTHS = 1000
 # What a slot is filled with at first: its worth, how many asks were done, and the last answer to each asker.
 NEW_SLOT = (0, 0, (None, None, None, None, None, None))
 NEVER = (0, 0, 0)
@@ -125,7 +125,7 @@ class House:
         """Do an ask; tells the answer."""
         make = self.now[1]
         worth, count, answers = self.held[slot]
-        worth = (worth + more) % WORTHS
+        worth = with_more(worth, more)
         count += 1
         answer = (number, worth, count, make)
         self.held[slot] = (worth, count, (*answers[:asker], answer, *answers[asker + 1:]))

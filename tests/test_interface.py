@@ -3,8 +3,18 @@
 import inspect
 import unittest
 
-from drainhouse import asker, board, errors, house, shares, world
+from drainhouse import asker, board, errors, house, judge, merge, notes, shares, steps, world
 
+FUNCTIONS = (
+    (shares, "shared", ["owners", "houses"]),
+    (judge, "judge", ["deeds"]),
+    (merge, "in_one", ["rows"]),
+    (notes, "written", ["edition"]),
+    (notes, "read", ["text"]),
+    (steps, "written_steps", ["steps"]),
+    (steps, "read_steps", ["text"]),
+    (steps, "played", ["first", "steps"]),
+)
 CLASSES = (
     (board, "Board", {
         "__init__": ["self", "first"], "come": ["self", "house"], "farewell": ["self", "house"], "turn": ["self"],
@@ -34,10 +44,42 @@ class Interface(unittest.TestCase):
         for value in told:
             self.assertIs(value.__class__, kind)
 
-    def test_shared(self):
-        self.assertEqual(list(inspect.signature(shares.shared).parameters), ["owners", "houses"])
-        self.assertEqual(shares.shared.__module__, "drainhouse.shares")
+    def test_functions(self):
+        for module, name, handed in FUNCTIONS:
+            with self.subTest(name):
+                function = getattr(module, name)
+                self.assertEqual(list(inspect.signature(function).parameters), handed)
+                self.assertEqual(function.__module__, module.__name__)
+
+    def test_kinds_of_functions(self):
+        edition = (1, None, (3,) * 12)
         self.check_kinds(tuple, shares.shared(owners=(3,) * 12, houses=[3]))
+        self.check_kinds(str, notes.written(edition=edition), steps.written_steps(steps=[("turn",)]))
+        told = notes.read(text=notes.written(edition))
+        self.check_kinds(tuple, told, told[2])
+        self.check_kinds(int, told[0], *told[2])
+        told = steps.read_steps(text="carry 1")
+        self.check_kinds(list, told)
+        self.check_kinds(tuple, told[0])
+        self.check_kinds(int, told[0][1])
+
+    def test_kinds_of_what_deeds_are_told(self):
+        deed = (0, 1, 0, 1, 5, 5, 0)
+        self.assertIsNone(judge.judge(deeds=[deed]))
+        self.check_kinds(int, judge.judge([deed, deed]))
+        self.assertIsNone(merge.in_one(rows=[[deed, deed]]))
+        told = merge.in_one([[], [deed]])
+        self.check_kinds(list, told)
+        self.check_kinds(tuple, told[0], told[0][1])
+        self.check_kinds(int, told[0][0])
+
+    def test_kinds_of_played(self):
+        told = steps.played(first=3, steps=[("turn",), ("send",)])
+        self.check_kinds(tuple, told)
+        self.check_kinds(list, told[0])
+        self.check_kinds(int, told[0][1])
+        self.check_kinds(world.World, told[1])
+        self.assertIsNone(told[0][0])
 
     def test_classes(self):
         for module, name, methods in CLASSES:
@@ -106,6 +148,9 @@ class Interface(unittest.TestCase):
             shares.shared((), [])
         with self.assertRaises(errors.DrainError):
             asker.Asker(6, ())
+        for refused, handed in ((notes.read, ""), (notes.written, ()), (steps.read_steps, "x")):
+            with self.assertRaises(errors.DrainError):
+                refused(handed)
 
 
 if __name__ == "__main__":

@@ -8,6 +8,7 @@ from drainhouse.errors import (
     BadAsk, BadAsker, BadCount, BadHouse, Busy, DrainError, Known, LastHouse, NoHouse, NoLetter, TooMany,
 )
 from drainhouse.world import World
+from tests.drawn import done, drawn_step
 from tests.own_world import OwnWorld, world_view
 from tests.village import BAD_ASKERS, BAD_HOUSES, BAD_MORES, BAD_SLOTS, FAR
 
@@ -373,28 +374,6 @@ class Told(unittest.TestCase):
 class Steps(unittest.TestCase):
     """A world, step by step, against one that the test puts together itself."""
 
-    def step(self, chance):
-        """A drawn step: a method's name, and what it is handed; some steps are refused."""
-        doing = chance.random()
-        if doing < 0.12:
-            return chance.choice((("come", chance.randint(-1, 20)), ("farewell", chance.randint(-1, 20)), ("turn",)))
-        if doing < 0.3:
-            return ("ask", chance.randint(-1, 6), chance.randint(-1, 12), chance.choice((-100, -99, 0, 99, 100, 5)))
-        if doing < 0.45:
-            return ("send",)
-        if doing < 0.47:
-            return ("settle", chance.choice((-1, 0, 1, 2, 99, 100)))
-        place = chance.choice((0, 0, -1, chance.randrange(12), chance.randrange(80)))
-        return (chance.choice(("carry", "carry", "twice", "lose")), place)
-
-    def done(self, world, step):
-        """What a step tells, or by which class it is refused."""
-        name, *handed = step
-        try:
-            return getattr(world, name)(*handed)
-        except DrainError as refusal:
-            return refusal.__class__
-
     def own_done(self, own, step):
         """The same of an own world, whose places and counts are looked at here."""
         name, *handed = step
@@ -402,7 +381,7 @@ class Steps(unittest.TestCase):
             return NoLetter
         if name == "settle" and not 0 <= handed[0] <= 99:
             return BadCount
-        return self.done(own, step)
+        return done(own, step)
 
     def test_many_steps(self):
         answered = 0
@@ -412,8 +391,8 @@ class Steps(unittest.TestCase):
             world, own = World(first), OwnWorld(first)
             with self.subTest(seed=seed):
                 for turn in range(150):
-                    step = self.step(chance)
-                    self.assertEqual(self.done(world, step), self.own_done(own, step), step)
+                    step = drawn_step(chance)
+                    self.assertEqual(done(world, step), self.own_done(own, step), step)
                     self.assertEqual(world_view(world), own.view(), step)
                 for world_or_own in (world, own):
                     world_or_own.settle(99)
@@ -424,21 +403,21 @@ class Steps(unittest.TestCase):
     def test_two_worlds_in_turn(self):
         for seed in range(20):
             chance = random.Random(seed)
-            steps = [self.step(chance) for turn in range(120)]
+            steps = [drawn_step(chance) for turn in range(120)]
             one, other, alone = World(3), World(3), World(3)
             told = []
             for step in steps:
-                told.append((self.done(one, step), world_view(one)))
-                self.done(other, self.step(chance))
+                told.append((done(one, step), world_view(one)))
+                done(other, drawn_step(chance))
                 for made in world_view(other)[:2]:
                     made.clear()
-            self.assertEqual([(self.done(alone, step), world_view(alone)) for step in steps], told)
+            self.assertEqual([(done(alone, step), world_view(alone)) for step in steps], told)
 
     def test_asked_again_the_same_is_told(self):
         chance = random.Random(1)
         world = World(3)
         for turn in range(200):
-            self.done(world, self.step(chance))
+            done(world, drawn_step(chance))
             self.assertEqual(world_view(world), world_view(world))
 
 
